@@ -1,0 +1,1 @@
+"""Cornerways: borders that meet at the corners, for all sizes."""

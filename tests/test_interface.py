@@ -1,0 +1,59 @@
+"""Names, parameters and places are as the document's interface lists them."""
+
+import ast
+import importlib
+import inspect
+import pathlib
+import unittest
+
+from cornerways.motifs import Borders
+from cornerways.rooms import Room
+
+PACKAGE = pathlib.Path(__file__).resolve().parent.parent / "cornerways"
+
+CLASSES = {
+    "errors": ("BadValue", "InvalidText", "InvalidLine", "InvalidState", "InvalidNumber", "InvalidName", "InvalidIndex",
+               "InvalidWish", "InvalidClaim", "NotBorders", "NotARoom", "InvalidSizes", "InvalidFilling",
+               "InvalidNames", "InvalidLines", "BadName", "UnknownName", "InUse", "NoAnswer", "OtherLetters", "TooMany",
+               "NothingToUndo", "NotAsked", "Broken"),
+    "motifs": ("Borders",),
+    "rooms": ("Room",),
+}
+
+METHODS = {
+    Borders: {"__init__": ["text"], "add": ["line"], "only": ["names"], "__eq__": ["other"], "__str__": []},
+    Room: {"__init__": ["text"], "lengths": ["sizes"], "__eq__": ["other"], "__str__": [], "__len__": []},
+}
+
+PROPERTIES = {
+    Borders: ("text", "signs", "states", "pieces", "corners", "names"),
+    Room: ("text", "sides", "letters"),
+}
+
+
+class Interface(unittest.TestCase):
+
+    def test_each_class_is_defined_in_its_file(self):
+        for module, names in CLASSES.items():
+            tree = ast.parse((PACKAGE / f"{module}.py").read_text())
+            defined = [node.name for node in tree.body if isinstance(node, ast.ClassDef)]
+            self.assertEqual(sorted(defined), sorted(names))
+            for name in names:
+                made = getattr(importlib.import_module(f"cornerways.{module}"), name)
+                self.assertEqual(made.__module__, f"cornerways.{module}")
+
+    def test_each_method_is_defined_in_its_class(self):
+        for made, methods in METHODS.items():
+            for name, parameters in methods.items():
+                told = inspect.signature(vars(made)[name]).parameters
+                self.assertEqual(list(told)[1:], parameters, name)
+
+    def test_each_property_is_defined_in_its_class(self):
+        for made, names in PROPERTIES.items():
+            for name in names:
+                self.assertIsInstance(vars(made)[name], property)
+
+    def test_oblong_is_called_off_the_class(self):
+        self.assertIn("oblong", vars(Room))
+        parameters = inspect.signature(Room.oblong).parameters
+        self.assertEqual([(name, told.default) for name, told in parameters.items()], [("by", 0)])
