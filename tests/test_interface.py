@@ -20,6 +20,19 @@ CLASSES = {
     "rooms": ("Room",),
 }
 
+FUNCTIONS = {
+    "sides": {"shown": ["borders", "begin", "many"], "beginnings": ["borders", "text"],
+              "walk": ["borders", "begin", "filling"], "side_cost": ["borders", "length", "begin", "end"],
+              "least_filling": ["borders", "length", "begin", "end"], "calendar": ["borders"]},
+    "closing": {"least_cost": ["borders", "room", "sizes"], "least_border": ["borders", "room", "sizes"],
+                "ways": ["borders", "room", "sizes"]},
+    "sizes": {"always": ["borders", "room"], "failing": ["borders", "room"], "dearest": ["borders", "room"],
+              "count_closing": ["borders", "room", "top"], "count_both": ["borders", "room", "inner", "top"],
+              "enough": ["borders", "room"]},
+    "comparing": {"alike": ["one", "other", "room"], "parting": ["one", "other", "room"],
+                  "never_dearer": ["one", "other", "room"]},
+}
+
 METHODS = {
     Borders: {"__init__": ["text"], "add": ["line"], "only": ["names"], "__eq__": ["other"], "__str__": []},
     Room: {"__init__": ["text"], "lengths": ["sizes"], "__eq__": ["other"], "__str__": [], "__len__": []},
@@ -41,6 +54,20 @@ class Interface(unittest.TestCase):
             for name in names:
                 made = getattr(importlib.import_module(f"cornerways.{module}"), name)
                 self.assertEqual(made.__module__, f"cornerways.{module}")
+
+    def test_each_function_is_defined_in_its_file(self):
+        for module, functions in FUNCTIONS.items():
+            tree = ast.parse((PACKAGE / f"{module}.py").read_text())
+            defined = [node.name for node in tree.body if isinstance(node, ast.FunctionDef)]
+            for name, parameters in functions.items():
+                self.assertIn(name, defined)
+                made = getattr(importlib.import_module(f"cornerways.{module}"), name)
+                self.assertEqual(made.__module__, f"cornerways.{module}")
+                told = inspect.signature(made).parameters
+                self.assertEqual(list(told), parameters, name)
+                for parameter in told.values():
+                    self.assertEqual([parameter.kind, parameter.default],
+                                     [parameter.POSITIONAL_OR_KEYWORD, parameter.empty])
 
     def test_each_method_is_defined_in_its_class(self):
         for made, methods in METHODS.items():
