@@ -41,8 +41,8 @@ def back_costs(rounds):
 class Links:
     """The least costs of legs: sides with the corners behind them.
 
-    Arrivals, the states to which corners lead, are told by their indexes here. A link has a column for each
-    arrival behind the leg, and a column the cost for each arrival ahead of it.
+    Arrivals, the states to which corners lead, are told by their indexes here. The link of a leg has a column for
+    each arrival behind it, and a column has a cost for each arrival ahead of it.
     """
 
     def __init__(self, borders):

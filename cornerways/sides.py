@@ -8,7 +8,7 @@ from cornerways.motifs import Borders
 MOST_SHOWN = 1000
 MOST_STEPS = 200
 MOST_AT_ONCE = 10 ** 31
-# Stands for no cost: it is greater than any cost there is, so a sum with it and a least one of such sums are so, too.
+# Stands where there is no cost. It is greater than the cost of any border, and so is each sum with it.
 NO_COST = 10 ** 6
 
 
@@ -43,9 +43,9 @@ def check_filling(borders, filling):
 
 def state_behind(borders, state, many):
     """The state behind so many plain steps."""
-    phase = int(state[0])
-    moved = phase + many if state[1] == ">" else phase - many
-    return f"{moved % len(borders.signs)}{state[1]}"
+    move = many if state[1] == ">" else -many
+    phase = (int(state[0]) + move) % len(borders.signs)
+    return f"{phase}{state[1]}"
 
 
 def signs_behind(borders, state, many):

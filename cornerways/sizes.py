@@ -80,7 +80,7 @@ def failing(borders, room):
     check_borders(borders)
     check_room(room)
     links = Links(borders)
-    # A size that fails does so, too, if it is one motif less and there is still a room: plain steps could fill it up.
+    # With a motif more of plain steps a room that closes still does: no least failing number can spare a motif.
     firsts = [max(0, -least_plus(room, letter)) for letter in room.letters]
     for more in sizes_below([len(borders.signs)] * len(firsts)):
         sizes = tuple([first + number for first, number in zip(firsts, more)])
