@@ -2,7 +2,7 @@
 
 from cornerways.errors import NotARoom, TooMany
 from cornerways.limits import MOST_WAYS
-from cornerways.rooms import Room
+from cornerways.rooms import Room, check_sizes, lengths_of
 from cornerways.sides import NO_COST, Prices, check_borders, cost_or_none, steps_into
 
 
@@ -19,14 +19,22 @@ def arrivals_of(borders):
 
 def legs_of(room, sizes):
     """The pairs (length, turn) of the sides with the corners behind them, None if there is no room."""
-    lengths = room.lengths(sizes)
+    lengths = lengths_of(room, sizes)
     if lengths is None:
         return None
     return [(length, side[2]) for length, side in zip(lengths, room.sides)]
 
 
+def checked_legs(borders, room, sizes):
+    """The legs of right arguments; raises the error of the first one that is not right."""
+    check_borders(borders)
+    check_room(room)
+    check_sizes(sizes, len(room.letters))
+    return legs_of(room, sizes)
+
+
 def rows_behind(begin, links):
-    """The least costs to all arrivals from this one: at first, then behind each of the links."""
+    """The least costs to all places from this one: at first, then behind each of the links."""
     rows = [[0 if at == begin else NO_COST for at in range(len(links[0]))]]
     for link in links:
         rows.append([min([cost + more for cost, more in zip(rows[-1], column)]) for column in link])
@@ -34,21 +42,22 @@ def rows_behind(begin, links):
 
 
 def back_costs(rounds):
-    """For each arrival as begin the least cost of leading back to it."""
+    """For each place as begin the least cost of leading back to it."""
     return [rows[-1][begin] for begin, rows in enumerate(rounds)]
 
 
 class Links:
     """The least costs of legs: sides with the corners behind them.
 
-    Arrivals, the states to which corners lead, are told by their indexes here. The link of a leg has a column for
-    each arrival behind it, and a column has a cost for each arrival ahead of it.
+    The places, states with which legs begin and end, are told by their indexes here. The link of a leg has a column
+    for each place behind it, and a column has a cost for each place ahead of it. For borders the arrivals are places
+    enough.
     """
 
-    def __init__(self, borders):
+    def __init__(self, borders, places):
         self.joints = borders.corners
-        self.arrivals = arrivals_of(borders)
-        self.prices = [Prices(borders, state) for state in self.arrivals]
+        self.places = places
+        self.prices = [Prices(borders, state) for state in places]
         self.kept = {}
 
     def leg_cost(self, prices, length, corner):
@@ -56,7 +65,7 @@ class Links:
         return prices.cost(length, corner[2]) + corner[4]
 
     def column(self, leg, end):
-        """The least costs of the leg from each arrival to this one."""
+        """The least costs of the leg from each place to this state."""
         length, turn = leg
         joints = [corner for corner in self.joints if corner[1] == turn and corner[3] == end]
         return [min([NO_COST] + [self.leg_cost(prices, length, corner) for corner in joints])
@@ -65,13 +74,13 @@ class Links:
     def link(self, leg):
         """The link of a leg."""
         if leg not in self.kept:
-            self.kept[leg] = [self.column(leg, end) for end in self.arrivals]
+            self.kept[leg] = [self.column(leg, end) for end in self.places]
         return self.kept[leg]
 
     def rounds(self, legs):
-        """For each arrival as begin the least costs at first and behind each leg."""
+        """For each place as begin the least costs at first and behind each leg."""
         links = [self.link(leg) for leg in legs]
-        return [rows_behind(begin, links) for begin in range(len(self.arrivals))]
+        return [rows_behind(begin, links) for begin in range(len(self.places))]
 
     def least(self, legs):
         """The least cost of a border with these legs, None if there is none or no room for them."""
@@ -80,9 +89,9 @@ class Links:
         return cost_or_none(min([NO_COST] + back_costs(self.rounds(legs))))
 
     def last_leg(self, leg, ahead, end, cost):
-        """The arrival ahead of a leg, and its corner, with which the leg leads to an arrival at this cost."""
+        """The place ahead of a leg, and its corner, with which the leg leads to a place at this cost."""
         return [(begin, index) for begin, prices in enumerate(self.prices) for index, corner in enumerate(self.joints)
-                if corner[1] == leg[1] and corner[3] == self.arrivals[end]
+                if corner[1] == leg[1] and corner[3] == self.places[end]
                 and ahead[begin] + self.leg_cost(prices, leg[0], corner) == cost][0]
 
     def border(self, legs):
@@ -95,23 +104,24 @@ class Links:
             ahead, index = self.last_leg(legs[at], rows[at], state, rows[at + 1][state])
             told.append((self.prices[ahead].filling(legs[at][0], self.joints[index][2]), index))
             state = ahead
-        return (self.arrivals[begin], tuple(told[::-1]))
+        return (self.places[begin], tuple(told[::-1]))
+
+
+def border_links(borders):
+    """The links that borders need."""
+    return Links(borders, arrivals_of(borders))
 
 
 def least_cost(borders, room, sizes):
     """The least cost of a border of these sizes, None if there is none or no room."""
-    check_borders(borders)
-    check_room(room)
-    legs = legs_of(room, sizes)
-    return Links(borders).least(legs)
+    legs = checked_legs(borders, room, sizes)
+    return border_links(borders).least(legs)
 
 
 def least_border(borders, room, sizes):
     """A border of these sizes with the least cost, None if there is none or no room."""
-    check_borders(borders)
-    check_room(room)
-    legs = legs_of(room, sizes)
-    links = Links(borders)
+    legs = checked_legs(borders, room, sizes)
+    links = border_links(borders)
     return None if links.least(legs) is None else links.border(legs)
 
 
@@ -146,9 +156,7 @@ def ways_round(borders, counts, legs, begin):
 
 def ways(borders, room, sizes):
     """How many borders of these sizes there are, each plain step taken by itself."""
-    check_borders(borders)
-    check_room(room)
-    legs = legs_of(room, sizes)
+    legs = checked_legs(borders, room, sizes)
     if legs is None:
         return 0
     longest = max([leg[0] for leg in legs])

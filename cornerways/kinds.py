@@ -1,14 +1,35 @@
-"""What kinds of values there are: integers, words, digits and turns."""
+"""What kinds of values there are: integers, rows, words, digits and turns."""
 
 LETTERS = "abcdefghijklmnopqrstuvwxyz"
 DIGITS = "0123456789"
 LONGEST_WORD = 8
 TURNS = ("out", "in")
+MOST_CLAIMED = 1000
+
+
+def is_any_integer(value):
+    """Whether a value is an integer; True and False are none."""
+    return isinstance(value, int) and not isinstance(value, bool)
+
+
+def is_integer_from(value, least):
+    """Whether a value is an integer from this one on."""
+    return is_any_integer(value) and least <= value
 
 
 def is_integer(value, least, most):
-    """Whether a value is an integer within these bounds; True and False are none."""
-    return isinstance(value, int) and not isinstance(value, bool) and least <= value <= most
+    """Whether a value is an integer within these bounds."""
+    return is_any_integer(value) and least <= value <= most
+
+
+def is_claimed_cost(value):
+    """Whether a value is a cost that a claim of a book or a wish may tell."""
+    return is_integer(value, 0, MOST_CLAIMED)
+
+
+def is_row(value, many):
+    """Whether a value is a row of so many elements."""
+    return isinstance(value, tuple) and len(value) == many
 
 
 def is_letters(text, most):
@@ -25,6 +46,13 @@ def is_among(value, strings):
     """Whether a value is one of these strings."""
     # The kind is asked first: an object of another class may claim to be equal to a string.
     return isinstance(value, str) and value in strings
+
+
+def is_worded(value, forms):
+    """Whether a value is a row in one of these forms: the word that stands first, and how many elements there are."""
+    if not isinstance(value, tuple) or len(value) == 0:
+        return False
+    return isinstance(value[0], str) and (value[0], len(value)) in forms
 
 
 def number_of(text, least, most):

@@ -54,6 +54,13 @@ def check_sizes(sizes, many):
         raise InvalidSizes(None)
 
 
+def lengths_of(room, sizes):
+    """The tuple of the lengths of the sides for right sizes, also for greater ones, None if there is no room."""
+    numbers = dict(zip(room.letters, sizes))
+    lengths = tuple([numbers[letter] + plus for letter, plus, turn in room.sides])
+    return None if min(lengths) < 0 else lengths
+
+
 class Room:
     """A room, made from its text."""
 
@@ -91,9 +98,7 @@ class Room:
     def lengths(self, sizes):
         """The tuple of the lengths of the sides, None if there is no room for these sizes."""
         check_sizes(sizes, len(self.alphabet))
-        numbers = dict(zip(self.alphabet, sizes))
-        told = tuple([numbers[letter] + plus for letter, plus, turn in self.rows])
-        return None if min(told) < 0 else told
+        return lengths_of(self, sizes)
 
     def __eq__(self, other):
         return isinstance(other, Room) and self.whole == other.whole

@@ -74,12 +74,12 @@ def next_row(rows, steps):
 
 
 def joined(steps):
-    """The same filling without two integers side by side."""
+    """The same filling without two integers side by side, and without those of 0."""
     filling = []
     for step in steps:
         if filling and isinstance(step, int) and isinstance(filling[-1], int):
             filling[-1] += step
-        else:
+        elif step != 0:
             filling.append(step)
     return tuple(filling)
 
@@ -131,7 +131,7 @@ class Prices:
         if self.costs[left][end] >= NO_COST:
             return None
         # Whole motifs of plain steps ahead of a filling lead to the state from which it goes.
-        ahead = [length - left] if length > left else []
+        ahead = [length - left]
         steps = []
         while left > 0:
             step, end, long = self.last_step(left, end)
@@ -157,11 +157,8 @@ def beginnings(borders, text):
     return tuple([state for state in borders.states if signs_behind(borders, state, len(text)) == text])
 
 
-def walk(borders, begin, filling):
-    """The triple (state behind it, length, cost) of a filling, None if it does not go."""
-    check_borders(borders)
-    check_state(borders, begin)
-    check_filling(borders, filling)
+def walked(borders, begin, filling):
+    """What `walk` tells of a right filling, also of one with more steps or greater ones."""
     pieces = {piece[0]: piece[1:] for piece in borders.pieces}
     state, length, cost = begin, 0, 0
     for step in filling:
@@ -176,6 +173,14 @@ def walk(borders, begin, filling):
             length += long
             cost += more
     return (state, length, cost)
+
+
+def walk(borders, begin, filling):
+    """The triple (state behind it, length, cost) of a filling, None if it does not go."""
+    check_borders(borders)
+    check_state(borders, begin)
+    check_filling(borders, filling)
+    return walked(borders, begin, filling)
 
 
 def side_cost(borders, length, begin, end):

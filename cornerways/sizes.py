@@ -1,6 +1,6 @@
 """Sizes: for which ones of all sizes a room closes, at which costs, and with which corners."""
 
-from cornerways.closing import Links, check_room, legs_of
+from cornerways.closing import border_links, check_room, legs_of
 from cornerways.errors import OtherLetters, TooMany
 from cornerways.limits import MOST_SIZE, MOST_TABLE
 from cornerways.sides import calendar, check_borders, check_number
@@ -16,6 +16,21 @@ def check_inner(room, inner):
 def least_plus(room, letter):
     """The least plus of the sides with this letter."""
     return min([side[1] for side in room.sides if side[0] == letter])
+
+
+def first_numbers(room):
+    """For each letter the least number for which there is a room."""
+    return [max(0, -least_plus(room, letter)) for letter in room.letters]
+
+
+def first_sizes(borders, room):
+    """The sizes with the numbers of one motif from the first ones on, the least sizes first.
+
+    With a motif more of plain steps a room that closes still does: the least sizes that fail are among these.
+    """
+    firsts = first_numbers(room)
+    return [tuple([first + number for first, number in zip(firsts, more)])
+            for more in sizes_below([len(borders.signs)] * len(firsts))]
 
 
 def table_bounds(room, since, period):
@@ -49,7 +64,7 @@ def own_bounds(borders, room):
 
 def costs_below(borders, room, bounds):
     """For all sizes below the bounds, in their order, the least cost, None if there is no border or no room."""
-    links = Links(borders)
+    links = border_links(borders)
     return {sizes: links.least(legs_of(room, sizes)) for sizes in sizes_below(bounds)}
 
 
@@ -79,11 +94,8 @@ def failing(borders, room):
     """The least sizes for which there is a room and no border, None if there are none."""
     check_borders(borders)
     check_room(room)
-    links = Links(borders)
-    # With a motif more of plain steps a room that closes still does: no least failing number can spare a motif.
-    firsts = [max(0, -least_plus(room, letter)) for letter in room.letters]
-    for more in sizes_below([len(borders.signs)] * len(firsts)):
-        sizes = tuple([first + number for first, number in zip(firsts, more)])
+    links = border_links(borders)
+    for sizes in first_sizes(borders, room):
         if links.least(legs_of(room, sizes)) is None:
             return sizes
     return None
@@ -126,22 +138,32 @@ def count_both(borders, room, inner, top):
                 and inner_costs[folded(sizes, inner_bounds, period)] is not None])
 
 
-def sets_of(names):
-    """All sets of these names, as ascending tuples, ordered by length, then as tuples."""
+def sets_of(members):
+    """All sets of these members, as tuples in the order of the members, ordered by length, then as tuples."""
     sets = [()]
-    for name in names:
-        sets = sets + [row + (name,) for row in sets]
+    for member in members:
+        sets = sets + [row + (member,) for row in sets]
     return sorted(sorted(sets), key=len)
 
 
-def is_within(part, names):
-    """Whether each of these names is one of those."""
-    return all([name in names for name in part])
+def is_within(part, members):
+    """Whether each member of this part is one of those."""
+    return all([member in members for member in part])
+
+
+def least_sets(members, does):
+    """The least sets of these members with which `does` tells True, as ascending tuples, ordered like all sets."""
+    least = []
+    for chosen in sets_of(members):
+        # A set has more members than its parts, so these come ahead of it.
+        if not any([is_within(part, chosen) for part in least]) and does(chosen):
+            least.append(chosen)
+    return tuple(least)
 
 
 def closes_for(borders, room, wanted):
     """Whether the room closes for all of these sizes."""
-    links = Links(borders)
+    links = border_links(borders)
     for sizes in wanted:
         if links.least(legs_of(room, sizes)) is None:
             return False
@@ -154,8 +176,4 @@ def enough(borders, room):
     check_room(room)
     costs = costs_below(borders, room, own_bounds(borders, room))
     wanted = [sizes for sizes in costs if costs[sizes] is not None]
-    least = []
-    for names in sets_of(borders.names):
-        if not any([is_within(part, names) for part in least]) and closes_for(borders.only(names), room, wanted):
-            least.append(names)
-    return tuple(least)
+    return least_sets(borders.names, lambda names: closes_for(borders.only(names), room, wanted))

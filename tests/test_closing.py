@@ -12,6 +12,9 @@ from search import all_sizes, lengths, letters_of, search, sides_of, single
 
 TOP = 10 ** 30
 
+# All borders of some sizes are put together only if there are no more.
+MOST_TRIED = 2000
+
 
 def told_cost(borders, border):
     """The cost of a border, as `walk` tells that of its fillings."""
@@ -30,6 +33,8 @@ class SearchItself(unittest.TestCase):
         for text, room in kind_pairs(31, 60, most_sides=3, most_plus=2, most_pieces=2):
             searched, sides = search(text), sides_of(room)
             for sizes in all_sizes(len(letters_of(room)), 3):
+                if searched.ways(sides, sizes) > MOST_TRIED:
+                    continue
                 rows = searched.borders(sides, sizes)
                 self.assertEqual(len(set(rows)), len(rows))
                 self.assertEqual(searched.ways(sides, sizes), len(rows))
@@ -183,7 +188,7 @@ class LeastBorders(unittest.TestCase):
         for text, room in kind_pairs(42, 50, most_sides=3, most_plus=2, most_pieces=2):
             for sizes in all_sizes(len(letters_of(room)), 3):
                 border = least_border(Borders(text), Room(room), sizes)
-                if border is not None:
+                if border is not None and search(text).ways(sides_of(room), sizes) <= MOST_TRIED:
                     row = (border[0], tuple((single(filling), at) for filling, at in border[1]))
                     self.assertIn((least_cost(Borders(text), Room(room), sizes), row),
                                   search(text).borders(sides_of(room), sizes))

@@ -4,8 +4,10 @@ import doctest
 import pathlib
 import unittest
 
+from cornerways.checker import accepts
 from cornerways.closing import least_border, least_cost, ways
 from cornerways.motifs import Borders
+from cornerways.papers import paper_of_always, paper_of_cost, paper_of_floor
 from cornerways.rooms import Room
 from cornerways.sides import beginnings, calendar, least_filling, shown, side_cost, walk
 from cornerways.sizes import always, count_both, count_closing, dearest, enough, failing
@@ -61,6 +63,14 @@ class Document(unittest.TestCase):
         told = [failing(free, Room.oblong()), always(free, Room("x out, x out")), enough(free, Room.oblong()),
                 dearest(free, Room.oblong())]
         self.assertEqual(repr(told), "[None, True, (('turn',),), (4, (0, 0))]")
+
+    def test_papers(self):
+        square, free = Borders(SQUARE), Borders(FREE)
+        first, second, third = (paper_of_cost(free, Room.oblong(), (1, 2)), paper_of_floor(free, Room.oblong(), (1, 2)),
+                                paper_of_always(square, Room.oblong()))
+        told = [first[0][0], first[0][4], accepts(first[0], first[1]), second[0][0], second[0][4],
+                accepts(second[0], second[1]), third[0][0], accepts(third[0], third[1]), accepts(first[0], None)]
+        self.assertEqual(repr(told), "['closes', 4, True, 'at least', 4, True, 'fails', True, False]")
 
     def test_samples_are_the_border_books_of_the_examples(self):
         self.assertEqual(DOCUMENT, "signs abc\npiece gap 0> 1> long 2 cost 5\ncorner turn out 0> 0> cost 0\n"

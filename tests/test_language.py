@@ -2,6 +2,7 @@
 
 import ast
 import builtins
+import functools
 import pathlib
 import re
 import unittest
@@ -33,14 +34,17 @@ BARRED_NODES = (ast.Global, ast.AsyncFunctionDef, ast.AsyncFor, ast.AsyncWith, a
                 ast.Import, ast.TryStar)
 
 
+@functools.lru_cache(maxsize=None)
 def files():
     return sorted(path for path in PACKAGE.rglob("*") if path.is_file() and "__pycache__" not in path.parts)
 
 
+@functools.lru_cache(maxsize=None)
 def trees():
     return [(path.name, ast.parse(path.read_text())) for path in files()]
 
 
+@functools.lru_cache(maxsize=None)
 def nodes(*kinds):
     return [(name, node) for name, tree in trees() for node in ast.walk(tree) if isinstance(node, kinds)]
 
@@ -63,10 +67,12 @@ def bound_names(tree):
             yield node.name
 
 
+@functools.lru_cache(maxsize=None)
 def own_methods():
     return {node.name for name, made in nodes(ast.ClassDef) for node in made.body if isinstance(node, ast.FunctionDef)}
 
 
+@functools.lru_cache(maxsize=None)
 def own_attributes():
     return {node.attr for name, node in nodes(ast.Attribute) if isinstance(node.ctx, ast.Store)}
 

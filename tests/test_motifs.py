@@ -1,10 +1,10 @@
-import re
 import string
 import unittest
 
 from cornerways.errors import BadValue, InvalidLine, InvalidNames, InvalidText
 from cornerways.motifs import Borders
 from cornerways.rooms import Room
+from reading import is_book_text as right
 from values import Claims, changed, nested, others_than_strings, others_than_tuples
 
 GAP = "piece gap 0> 1> long 2 cost 5"
@@ -14,23 +14,6 @@ TEXT = f"signs abc\n{GAP}\n{TURN}\ncorner turn out 1> 2> cost 1\ncorner nook in 
 PIECES = [f"piece {letter * 8} {k % 3}> 0< long {k % 6 + 1} cost {k}" for k, letter in enumerate("abcdefgh")]
 CORNERS = [f"corner {'abcd'[k % 4]} {('out', 'in')[k % 2]} {k % 3}< 1> cost {k % 10}" for k in range(12)]
 FULL = "\n".join(["signs abcde"] + PIECES + CORNERS)
-
-
-def right(text):
-    """Whether the document takes this string for a border book's text; told apart from how the package reads it."""
-    lines = text.split("\n")
-    if not re.fullmatch("signs [a-z]{1,5}", lines[0]):
-        return False
-    state = f"[0-{len(lines[0]) - 7}][<>]"
-    piece = f"piece ([a-z]{{1,8}}) {state} {state} long [1-6] cost [0-9]"
-    corner = f"corner ([a-z]{{1,8}}) (?:out|in) {state} {state} cost [0-9]"
-    kinds = "".join("p" if re.fullmatch(piece, line) else "c" if re.fullmatch(corner, line) else "-"
-                    for line in lines[1:])
-    if not re.fullmatch("p{0,8}c{0,12}", kinds) or len(set(lines)) < len(lines):
-        return False
-    names = [line.split(" ")[1] for line in lines[1:]]
-    many = kinds.count("p")
-    return len(set(names[:many])) == many and len(set(names[many:])) <= 4
 
 
 class Texts(unittest.TestCase):

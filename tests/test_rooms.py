@@ -1,20 +1,14 @@
 import itertools
-import re
 import string
 import unittest
 
 from cornerways.errors import BadValue, InvalidNumber, InvalidSizes, InvalidText
 from cornerways.motifs import Borders
 from cornerways.rooms import Room
+from reading import is_room_text as right
 from values import Claims, changed, others_than_integers, others_than_strings, others_than_tuples
 
 NOOK = "x out, y+2 out, x-9 in, y out"
-SIDE = "[xyz](?:[+-][1-9])? (?:out|in)"
-
-
-def right(text):
-    """Whether the document takes this string for a room's text; told apart from how the package reads it."""
-    return re.fullmatch(f"{SIDE}(?:, {SIDE}){{0,11}}", text) is not None
 
 
 class Texts(unittest.TestCase):

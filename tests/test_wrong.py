@@ -1,11 +1,11 @@
-"""Wrong values for each parameter of the functions of sides, closing, sizes and comparing."""
+"""Wrong values for each parameter of the functions of sides, closing, sizes, comparing, mends and papers."""
 
 import copy
 import itertools
 import unittest
 
 import samples
-from cornerways import closing, comparing, errors, sides, sizes
+from cornerways import closing, comparing, errors, mends, papers, sides, sizes
 from cornerways.motifs import Borders
 from cornerways.rooms import Room
 from values import Claims, nested, others, others_than_integers, others_than_strings, others_than_tuples
@@ -76,6 +76,20 @@ def wrong_sizes():
             + index(errors.InvalidSizes, ((), None), ((1,), None), ((1, 1, 1), 2), ((1, 1, None, -1), 2)))
 
 
+def wrong_wishes():
+    return given(errors.InvalidWish, *others(), "always", (), ("always", 0), ("at most",), ("at most", -1),
+                 ("at most", 1001), ("at most", True), ("at most", "0"), ["always"], ("Always",), (Claims(),), nested(10))
+
+
+def wrong_lines():
+    lines = others_than_strings() + ["", "signs ab", "corner d in 0< 0< cost 2", "piece gap 0> 0> long 1 cost 0"]
+    more = "piece more 0> 0> long 1 cost 0"
+    return (index(errors.InvalidLines, *[((line,), 0) for line in lines])
+            + index(errors.InvalidLines, *[((more, line, line), 1) for line in lines])
+            + index(errors.InvalidLines, *[(value, None) for value in others_than_tuples() + [more, [more]]])
+            + index(errors.InvalidLines, ((more, more), 1), (tuple(more.replace("r", at) for at in "abcde"), 4)))
+
+
 def parameters(told):
     """The rows (parameter, a right value, wrong values) of a function's parameters."""
     borders = Borders(samples.FREE + "\ncorner d in 0< 0< cost 2").add("piece gap 0> 1> long 2 cost 5")
@@ -85,7 +99,8 @@ def parameters(told):
         "inner": (Room("y out, x-2 out"), wrong_inner_rooms), "sizes": ((1, 2), wrong_sizes),
         "begin": ("0>", wrong_states), "end": ("1>", wrong_states), "length": (4, lambda: wrong_numbers(TOP)),
         "top": (7, lambda: wrong_numbers(TOP)), "many": (9, lambda: wrong_numbers(1000)), "text": ("ab", wrong_texts),
-        "filling": ((2, "gap"), wrong_fillings)}
+        "filling": ((2, "gap"), wrong_fillings), "wish": (("at most", 30), wrong_wishes),
+        "lines": (("corner d in 1< 0< cost 2",), wrong_lines)}
     return [(name, *kinds[name]) for name in told.split()]
 
 
@@ -96,7 +111,10 @@ FUNCTIONS = [
     (closing.least_border, "borders room sizes"), (closing.ways, "borders room sizes"), (sizes.always, "borders room"),
     (sizes.failing, "borders room"), (sizes.dearest, "borders room"), (sizes.count_closing, "borders room top"),
     (sizes.count_both, "borders room inner top"), (sizes.enough, "borders room"), (comparing.alike, "one other room"),
-    (comparing.parting, "one other room"), (comparing.never_dearer, "one other room")]
+    (comparing.parting, "one other room"), (comparing.never_dearer, "one other room"),
+    (mends.mending, "borders room wish lines"), (papers.paper_of_cost, "borders room sizes"),
+    (papers.paper_of_floor, "borders room sizes"), (papers.paper_of_always, "borders room"),
+    (papers.paper_of_unlike, "one other room")]
 
 BASES = {errors.OtherLetters: (errors.NoAnswer, ArithmeticError)}
 
