@@ -5,24 +5,11 @@ from cornerways.comparing import parting
 from cornerways.errors import (Broken, InUse, InvalidClaim, InvalidIndex, InvalidName, InvalidSizes, InvalidText,
                                NotAsked, NothingToUndo, TooMany, UnknownName)
 from cornerways.kinds import is_among, is_claimed_cost, is_integer, is_word, is_worded
-from cornerways.rooms import Room
+from cornerways.rooms import Room, check_sizes
 from cornerways.sides import check_borders
 from cornerways.sizes import failing
 
 CLAIMS = (("always", 3), ("at most", 5), ("alike", 4))
-
-
-def is_claim(value):
-    """Whether a value is a claim, if its names are not looked at."""
-    if not is_worded(value, CLAIMS):
-        return False
-    try:
-        room = Room(value[3] if value[0] == "alike" else value[2])
-        if value[0] == "at most":
-            room.lengths(value[3])
-    except (InvalidText, InvalidSizes):
-        return False
-    return value[0] != "at most" or is_claimed_cost(value[4])
 
 
 def names_in(claim):
@@ -30,17 +17,32 @@ def names_in(claim):
     return claim[1:3] if claim[0] == "alike" else claim[1:2]
 
 
+def room_in(claim):
+    """The text of the room of a claim."""
+    return claim[3] if claim[0] == "alike" else claim[2]
+
+
+def is_claim(value):
+    """Whether a value is a claim, if its names are not looked at."""
+    if not is_worded(value, CLAIMS):
+        return False
+    try:
+        room = Room(room_in(value))
+        if value[0] == "at most":
+            check_sizes(value[3], len(room.letters))
+    except (InvalidText, InvalidSizes):
+        return False
+    return value[0] != "at most" or is_claimed_cost(value[4])
+
+
 def answer(shelf, claim):
     """The pair of whether a claim holds, and of what shows that it does not."""
-    borders = shelf[claim[1]]
-    if claim[0] == "alike":
-        sizes = parting(borders, shelf[claim[2]], Room(claim[3]))
-        return (sizes is None, sizes)
-    if claim[0] == "always":
-        sizes = failing(borders, Room(claim[2]))
-        return (sizes is None, sizes)
-    cost = least_cost(borders, Room(claim[2]), claim[3])
-    return (cost is not None and cost <= claim[4], cost)
+    borders, room = shelf[claim[1]], Room(room_in(claim))
+    if claim[0] == "at most":
+        cost = least_cost(borders, room, claim[3])
+        return (cost is not None and cost <= claim[4], cost)
+    sizes = failing(borders, room) if claim[0] == "always" else parting(borders, shelf[claim[2]], room)
+    return (sizes is None, sizes)
 
 
 def ask(shelf, index, claim):

@@ -85,7 +85,7 @@ def are_prices(value, many):
 
 
 def follows(row, link, behind):
-    """Whether the prices behind a leg are nowhere greater than those ahead of it and its costs together."""
+    """Whether the prices behind a leg are nowhere greater than those ahead of it and the costs of the leg together."""
     for price, column in zip(behind, link):
         for ahead, cost in zip(row, column):
             reached = ahead is not None and cost < NO_COST
@@ -95,7 +95,7 @@ def follows(row, link, behind):
 
 
 def is_price_list(links, begin, cost, value):
-    """Whether a value is a price list that no border with this begin costs less, or if told None, that none is."""
+    """Whether a value is a price list by which no border with this begin costs less; by cost None, there is none."""
     many = len(links[0])
     if not is_row(value, len(links) + 1) or not all([are_prices(row, many) for row in value]):
         return False
@@ -108,7 +108,7 @@ def is_price_list(links, begin, cost, value):
 
 
 def are_price_lists(borders, legs, cost, value):
-    """Whether there is a room, and a value tells that no border costs less, or if told None, that there is none."""
+    """Whether there is a room and a value is a paper that no border costs less; by cost None, that there is none."""
     if legs is None or not is_row(value, len(borders.states)):
         return False
     links = Links(borders, borders.states)

@@ -1,11 +1,11 @@
 """Mends: which new lines make a wish come true."""
 
-from cornerways.closing import check_room
+from cornerways.closing import border_links, check_room, legs_of
 from cornerways.errors import InvalidLine, InvalidLines, InvalidWish
 from cornerways.kinds import is_claimed_cost, is_worded
 from cornerways.limits import MOST_LINES
 from cornerways.sides import check_borders
-from cornerways.sizes import always, dearest, least_sets, own_bounds, sets_of
+from cornerways.sizes import always, least_sets, own_bounds, sets_of, sizes_below
 
 WISHES = (("always", 1), ("at most", 2))
 
@@ -39,11 +39,21 @@ def mended(borders, lines, chosen):
     return borders
 
 
+def never_above(borders, room, most):
+    """Whether the room closes at this cost or less for all sizes for which there is a room."""
+    links = border_links(borders)
+    # What `dearest` tells would do, but most sets of lines fail for some of the first sizes already.
+    for sizes in sizes_below(own_bounds(borders, room)):
+        legs = legs_of(room, sizes)
+        cost = links.least(legs)
+        if legs is not None and (cost is None or cost > most):
+            return False
+    return True
+
+
 def holds(borders, room, wish):
     """Whether the wish holds with this border book."""
-    if not always(borders, room):
-        return False
-    return wish[0] == "always" or dearest(borders, room)[0] <= wish[1]
+    return always(borders, room) if wish[0] == "always" else never_above(borders, room, wish[1])
 
 
 def mending(borders, room, wish, lines):

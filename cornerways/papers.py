@@ -15,7 +15,7 @@ def price_lists(borders, room, sizes):
 
 
 def lengthened(border, legs, longer):
-    """The border with these legs made one with longer ones, by plain steps ahead of its fillings."""
+    """The border with these legs made one with longer ones, by whole motifs of plain steps ahead of its fillings."""
     begin, sides = border
     return (begin, tuple([(joined((more[0] - leg[0],) + filling), corner)
                           for (filling, corner), leg, more in zip(sides, legs, longer)]))

@@ -221,3 +221,58 @@ class Statements(unittest.TestCase):
         for name, node in nodes(ast.Raise):
             if node.exc is not None:
                 self.assertIn(node.exc.func.id, classes | BUILTINS, name)
+
+    def test_caught_are_own_errors(self):
+        classes = {node.name for name, node in nodes(ast.ClassDef)}
+        for name, node in nodes(ast.ExceptHandler):
+            kinds = node.type.elts if isinstance(node.type, ast.Tuple) else [node.type]
+            self.assertLessEqual({kind.id for kind in kinds}, classes, name)
+
+    def test_module_level_dicts_and_lists_are_not_passed_on(self):
+        for name, tree in trees():
+            for row in tree.body:
+                if isinstance(row, ast.Assign):
+                    self.assertNotIsInstance(row.value, (ast.Dict, ast.List, ast.Set), name)
+
+
+class Operators(unittest.TestCase):
+
+    def methods(self, made):
+        return {row.name: row for row in made.body if isinstance(row, ast.FunctionDef)}
+
+    def test_a_class_with_items_is_not_iterated(self):
+        with_items = [made for name, made in nodes(ast.ClassDef) if "__getitem__" in self.methods(made)]
+        self.assertTrue(with_items)
+        for made in with_items:
+            rows = self.methods(made)["__iter__"].body
+            self.assertEqual([len(rows), type(rows[0]), rows[0].exc.func.id], [1, ast.Raise, "TypeError"])
+        self.assertNotIn("keys", own_methods() | own_attributes())
+
+    def test_the_rows_of_exit(self):
+        exits = [node for name, node in functions() if node.name == "__exit__"]
+        self.assertTrue(exits)
+        for node in exits:
+            for row in ast.walk(node):
+                if isinstance(row, ast.stmt) and row is not node:
+                    self.assertIsInstance(row, (ast.Assign, ast.If))
+                if isinstance(row, ast.If):
+                    self.assertRegex(ast.unparse(row.test), r"\Akind is (not )?None\Z")
+                if isinstance(row, ast.Assign):
+                    self.assertTrue(all(isinstance(part, ast.Attribute) for part in row.targets + [row.value]))
+
+    def test_truth_and_length(self):
+        for name, node in functions():
+            if node.name == "__len__":
+                self.assertRegex(ast.unparse(node.body[-1]), r"\Areturn len\(.*\)\Z")
+            if node.name == "__bool__":
+                self.assertEqual(ast.unparse(node.body[-1]), "return True")
+
+    def test_reversed_and_sort(self):
+        for name, node in nodes(ast.Call):
+            if getattr(node.func, "id", "") == "reversed":
+                self.assertIn(node.args[0].func.id, ("list", "tuple", "sorted", "range"), name)
+            self.assertNotEqual(getattr(node.func, "attr", ""), "sort", name)
+
+    def test_operators_are_written_by_their_signs(self):
+        for name, node in nodes(ast.Attribute):
+            self.assertFalse(node.attr.startswith("__"), (name, node.attr))

@@ -162,6 +162,18 @@ class Mendings(unittest.TestCase):
             self.assertEqual(list(told), sorted(told, key=lambda chosen: (len(chosen), chosen)))
             self.assertGreater(len(told), 1)
 
+    def test_pairs_of_lines(self):
+        text = "signs ab\ncorner c out 0> 0> cost 0"
+        lines = ("piece p 0> 0< long 1 cost 0", "piece q 0> 1< long 1 cost 0", "corner d out 1< 0> cost 0",
+                 "corner e out 0< 0> cost 0")
+        self.assertEqual(mending(Borders(text), Room("x out"), ALWAYS, lines), ((0, 3), (1, 2)))
+        self.assertEqual(mending(Borders(text), Room("x out"), ("at most", 0), lines), ((0, 3), (1, 2)))
+        for order in itertools.permutations(range(4)):
+            told = self.agrees(text, "x out", ALWAYS, tuple(lines[at] for at in order))
+            self.assertEqual(list(told), sorted(told))
+            self.assertEqual({frozenset(order[at] for at in pair) for pair in told},
+                             {frozenset((0, 3)), frozenset((1, 2))})
+
     def test_the_greatest_cost_and_the_least_one(self):
         text = "signs a\ncorner c out 0> 0> cost 9"
         room = ", ".join(["x out"] * 12)

@@ -238,6 +238,12 @@ class Given(unittest.TestCase):
             after = [vars(value) if isinstance(value, (Borders, Room)) else value for value in values]
             self.assertEqual(after, before)
 
+    def test_by_place_and_by_name(self):
+        for function, told in FUNCTIONS:
+            rows = parameters(told)
+            names = {name: right for name, right, wrong in reversed(rows)}
+            self.assertEqual(function(**names), function(*[right for name, right, wrong in rows]))
+
     def test_equal_arguments_tell_equal_things(self):
         for function, told in FUNCTIONS:
             first, second = ([right for name, right, wrong in parameters(told)] for _ in range(2))
